@@ -1,0 +1,1 @@
+"""Lists of books set by a style, and read back."""

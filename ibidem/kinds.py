@@ -1,0 +1,14 @@
+"""Kinds of values that several modules ask for."""
+
+SMALL = "abcdefghijklmnopqrstuvwxyz"
+CAPITALS = "ABCDEFGHIJKLMNOPQRSTUVWXYZ"
+
+
+def is_integer(value):
+    """Whether any value is an int that is no bool."""
+    return isinstance(value, int) and not isinstance(value, bool)
+
+
+def is_made_of(value, signs):
+    """Whether any value is a string, perhaps an empty one, of these signs alone."""
+    return isinstance(value, str) and all(sign in signs for sign in value)

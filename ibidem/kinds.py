@@ -12,3 +12,8 @@ def is_integer(value):
 def is_made_of(value, signs):
     """Whether any value is a string, perhaps an empty one, of these signs alone."""
     return isinstance(value, str) and all(sign in signs for sign in value)
+
+
+def is_text(value):
+    """Whether any value is a string, perhaps an empty one, of printable ASCII characters."""
+    return isinstance(value, str) and all(" " <= sign <= "~" for sign in value)

@@ -7,7 +7,7 @@ import unittest
 from ibidem import books
 from ibidem.books import SHAPES, is_book, is_list, shape_of
 from ibidem.errors import InvalidBook
-from samples import BOOKS, CLOUDS, FOG, ODD, RAIN, SNOW, STORMS, nested
+from samples import BOOKS, CLOUDS, FOG, ODD, RAIN, SNOW, STORMS, changed, nested
 
 ASH = ("Ash", "J")
 
@@ -28,11 +28,6 @@ YEARS = (1000, 1001, 1500, 2998, 2999)
 NO_YEARS = (999, 3000, 0, -1000, -2001, 20010, 10 ** 5000, "2001", (2001,), [2001], 2001.0)
 VOLUMES = (None, 1, 2, 9, 10, 998, 999)
 NO_VOLUMES = (0, -1, 1000, 10 ** 5000, "1", "", (1,), [1], 1.0)
-
-
-def changed(book, at, part):
-    """The book with another part at this place."""
-    return book[:at] + (part,) + book[at + 1:]
 
 
 def is_pair(value):

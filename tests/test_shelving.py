@@ -7,31 +7,13 @@ import unittest
 from ibidem import shelving
 from ibidem.errors import InvalidBook, InvalidLetters, InvalidList
 from ibidem.shelving import book_key, is_letters, ordered, place_for, ranks
-from samples import BOOKS, CLOUDS, FOG, LATIN, ODD, RAIN, SNOW, STORMS
+from samples import BOOKS, CLOUDS, FOG, LATIN, NO_LETTERS, ODD, RAIN, SNOW, SPANISH, STORMS, error_of
 
-SPANISH = LATIN[:3] + ("ch",) + LATIN[3:12] + ("ll",) + LATIN[12:]
 CROSSED = ("aa", "ab", "ba", "bb") + LATIN
 BACKWARDS = LATIN[::-1]
 ALL = (LATIN, SPANISH, CROSSED, BACKWARDS)
 
 PAIRS = tuple("a" + sign for sign in LATIN)
-
-NO_LETTERS = (
-    None, "", "".join(LATIN), list(LATIN), (LATIN,), (), LATIN[1:], LATIN[:-1], LATIN[:9] + LATIN[10:],
-    LATIN + ("a",), LATIN + ("ch", "ch"), LATIN + ("",), LATIN + ("abc",), LATIN + ("A",),
-    LATIN + ("aB",), LATIN + ("a ",), LATIN + ("1",), LATIN + ("a\n",), LATIN + ("\u00e9",),
-    LATIN + ("\u00df",), LATIN + (None,), LATIN + (True,), LATIN + (7,), LATIN + (("a", "b"),),
-    LATIN + (["a", "b"],), LATIN + ([],), LATIN + ((),),
-)
-
-
-def error_of(function, *arguments):
-    """What is raised by the call."""
-    try:
-        function(*arguments)
-    except ValueError as error:
-        return error
-    return None
 
 
 def book(family="Ash", given="J", year=2001, title="On rain", place=None, volume=None):

@@ -26,6 +26,23 @@ def read_list(style, text):
     return tuple(found)
 
 
+def book_of(shape, words):
+    """The book of the shape that has these words, by the parts that it has."""
+    many, placed, counted = shape
+    return (
+        tuple([(words["family", number], words["given", number]) for number in range(many)]),
+        int(words[("year",)]),
+        words[("title",)],
+        words[("place",)] if placed == 1 else None,
+        int(words[("volume",)]) if counted == 1 else None,
+    )
+
+
+def word_of(token, text):
+    """What the book has where the token shows this text."""
+    return text.replace(".", "") if token[0] == "dotted" else text
+
+
 def _rows_of(style):
     if hides(style):
         raise Undefined("hidden")
@@ -36,20 +53,9 @@ def _read(rows, text):
     found = []
     for shape, row in rows:
         fields = [shown_by(token) for token in row if token[0] != "sign"]
-        books = [_book_of(shape, dict(zip(fields, words))) for words in _readings(row, text)]
+        books = [book_of(shape, dict(zip(fields, words))) for words in _readings(row, text)]
         found.extend(sorted(books))
     return tuple(found)
-
-
-def _book_of(shape, words):
-    many, placed, counted = shape
-    return (
-        tuple([(words["family", number], words["given", number]) for number in range(many)]),
-        int(words[("year",)]),
-        words[("title",)],
-        words[("place",)] if placed == 1 else None,
-        int(words[("volume",)]) if counted == 1 else None,
-    )
 
 
 def _readings(row, text):
@@ -79,12 +85,8 @@ def _readings_ahead(token, text, starts, readings):
     for start in starts:
         ways = []
         for end in ends_from(token, text, start):
-            word = () if token[0] == "sign" else (_word_of(token, text[start:end]),)
+            word = () if token[0] == "sign" else (word_of(token, text[start:end]),)
             ways.extend([word + rest for rest in readings.get(end, [])])
         if ways:
             found[start] = ways
     return found
-
-
-def _word_of(token, text):
-    return text.replace(".", "") if token[0] == "dotted" else text

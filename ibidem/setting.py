@@ -20,6 +20,11 @@ def set_list(style, books, letters):
     return "".join([_entry(style, book) + "\n" for book in ordered(books, letters)])
 
 
+def dotted(given):
+    """The given with a dot behind each capital."""
+    return "".join([capital + "." for capital in given])
+
+
 def _entry(style, book):
     return "".join([_words_of(token, book) for token in row_of(style, shape_of(book))])
 
@@ -33,5 +38,5 @@ def _words_of(token, book):
     if kind == "given":
         return names[token[1]][1]
     if kind == "dotted":
-        return "".join([capital + "." for capital in names[token[1]][1]])
+        return dotted(names[token[1]][1])
     return str(book[PART_AT[kind]])

@@ -25,7 +25,7 @@ def steps(style, spot, sign):
     found = []
     if at >= 0:
         found.extend(_entered(shape, at, next_inside(row[at], inside, sign)))
-    if _may_leave(row, at, inside) and at + 1 < len(row):
+    if may_leave(row, at, inside) and at + 1 < len(row):
         found.extend(_entered(shape, at + 1, next_inside(row[at + 1], 0, sign)))
     return tuple(found)
 
@@ -34,7 +34,17 @@ def is_final(style, spot):
     """Whether a line of the spot's shape may end at the spot."""
     row = _row_at(style, spot)
     _, at, inside = spot
-    return _may_leave(row, at, inside) and at + 1 == len(row)
+    return may_end(row, at, inside)
+
+
+def may_leave(row, at, inside):
+    """Whether the token is read so far that the next one may begin."""
+    return at == -1 or is_enough(row[at], inside)
+
+
+def may_end(row, at, inside):
+    """Whether the row is read so far that its line may end."""
+    return at + 1 == len(row) and may_leave(row, at, inside)
 
 
 def _row_at(style, spot):
@@ -56,7 +66,3 @@ def _is_in(row, at, inside):
 
 def _entered(shape, at, inside):
     return [] if inside is None else [(shape, at, inside)]
-
-
-def _may_leave(row, at, inside):
-    return at == -1 or is_enough(row[at], inside)

@@ -37,7 +37,7 @@ def hidden(style):
     found = []
     for shape in SHAPES:
         shown = [shown_by(token) for token in row_of(style, shape)]
-        found.extend([(shape, what) for what in _parts_of(shape) if what not in shown])
+        found.extend([(shape, what) for what in parts_of(shape) if what not in shown])
     return tuple(found)
 
 
@@ -50,6 +50,11 @@ def check_style(value):
     """Raise InvalidStyle for any value that is no style."""
     if not is_style(value):
         raise InvalidStyle(value)
+
+
+def is_mark(value):
+    """Whether any value is the text of a mark."""
+    return value != "" and _is_short(value, MOST_SIGNS)
 
 
 def row_of(style, shape):
@@ -66,6 +71,16 @@ def shown_by(token):
     return ("given", token[1]) if token[0] == "dotted" else token
 
 
+def parts_of(shape):
+    """All that books of the shape have: the tokens that show it, givens not dotted."""
+    found = []
+    for number in range(shape[0]):
+        found.extend([("family", number), ("given", number)])
+    found.extend([("year",), ("title",)])
+    found.extend([(field,) for field in ("place", "volume") if _has(shape, field)])
+    return found
+
+
 def _are_pieces(value):
     if not isinstance(value, tuple) or not 1 <= len(value) <= MOST_PIECES:
         return False
@@ -75,11 +90,7 @@ def _are_pieces(value):
 def _is_plain(value):
     if not isinstance(value, tuple):
         return False
-    return value in FIELDS or len(value) == 2 and value[0] == "mark" and _is_mark(value[1])
-
-
-def _is_mark(value):
-    return value != "" and _is_short(value, MOST_SIGNS)
+    return value in FIELDS or len(value) == 2 and value[0] == "mark" and is_mark(value[1])
 
 
 def _is_choice(value):
@@ -173,12 +184,3 @@ def _name_of(shown, number):
     if given == "ahead":
         return capitals + _signs_of(gap) + family
     return family + _signs_of(gap) + capitals
-
-
-def _parts_of(shape):
-    found = []
-    for number in range(shape[0]):
-        found.extend([("family", number), ("given", number)])
-    found.extend([("year",), ("title",)])
-    found.extend([(field,) for field in ("place", "volume") if _has(shape, field)])
-    return found

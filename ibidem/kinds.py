@@ -9,11 +9,21 @@ def is_integer(value):
     return isinstance(value, int) and not isinstance(value, bool)
 
 
+def is_number(value):
+    """Whether any value is an integer from 0 on."""
+    return is_integer(value) and value >= 0
+
+
 def is_made_of(value, signs):
     """Whether any value is a string, perhaps an empty one, of these signs alone."""
     return isinstance(value, str) and all(sign in signs for sign in value)
 
 
+def is_sign(character):
+    """Whether the character is a printable ASCII character."""
+    return " " <= character <= "~"
+
+
 def is_text(value):
-    """Whether any value is a string, perhaps an empty one, of printable ASCII characters."""
-    return isinstance(value, str) and all(" " <= sign <= "~" for sign in value)
+    """Whether any value is a string, perhaps an empty one, of signs."""
+    return isinstance(value, str) and all(is_sign(character) for character in value)

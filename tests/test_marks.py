@@ -10,16 +10,10 @@ from ibidem.errors import InvalidBook, InvalidList, InvalidMarks, Undefined
 from ibidem.marks import (
     are_fair, are_marks, book_by, cost_of, do_part, label, labels, least_marks, marks_changed, stem,
 )
+from lists import NO_LISTS, any_list, book
 from samples import BOOKS, CLOUDS, FOG, ODD, RAIN, SNOW, STORMS, changed, error_of
 
 NO_BOOKS = (None, (), list(RAIN), RAIN[:4], changed(RAIN, 1, 999), changed(RAIN, 0, ()), (RAIN,), "Ash 2001")
-NO_LISTS = (None, list(BOOKS), RAIN, (RAIN, RAIN), (RAIN, None), [], "", (RAIN, list(CLOUDS)), 0)
-
-
-def book(year, *names, title="A", place=None, volume=None):
-    """A book of names told by words: `Ash J`."""
-    return (tuple(tuple(name.split(" ")) for name in names), year, title, place, volume)
-
 
 ASH = book(2001, "Ash J")
 ASH_B = book(2001, "Ash J", title="B")
@@ -85,18 +79,6 @@ def all_fair(books):
             for c, at in enumerate(lot, len(lot) > 1):
                 found[at] = pair + (c,)
         yield tuple(found)
-
-
-def any_list(chance, most, families=("Ash", "Elm"), givens=("J", "JK")):
-    """Some list of at most so many books, at most six of one first family and year."""
-    found = []
-    for _ in range(chance.randint(0, 4 * most)):
-        names = [f"{chance.choice(families)} {chance.choice(givens)}" for _ in range(chance.randint(1, 3))]
-        one = book(chance.choice((2001, 2001, 2002)), *names, title=chance.choice("ABC"))
-        near = [other for other in found if (other[0][0][0], other[1]) == (one[0][0][0], one[1])]
-        if one not in found and len(near) < 6 and len(found) < most:
-            found.append(one)
-    return tuple(found)
 
 
 class TestStem(unittest.TestCase):

@@ -20,7 +20,7 @@ def is_made_of(value, signs):
 
 
 def is_sign(character):
-    """Whether the character is a printable ASCII character."""
+    """Whether a string of one character, or of none, is a printable ASCII character."""
     return " " <= character <= "~"
 
 

@@ -1,6 +1,7 @@
 """Values told as texts, and read back."""
 
 from ibidem.errors import InvalidText
+from ibidem.kinds import is_sign
 
 QUOTE = '"'
 MOST_WITHIN = 30
@@ -73,7 +74,7 @@ def _tuple_at(text, at, depth):
 
 def _string_at(text, at):
     end = at + 1
-    while " " <= text[end:end + 1] <= "~" and text[end] != QUOTE:
+    while is_sign(text[end:end + 1]) and text[end] != QUOTE:
         end += 1
     if text[end:end + 1] != QUOTE:
         raise InvalidText(text, end)
